@@ -1,0 +1,1 @@
+"""Onehostmore: jobs that clash, put on hosts as they come."""

@@ -1,0 +1,66 @@
+"""Each name of the interface stands in its file, with the parameters that the document shows (promises 2 and 17)."""
+
+import importlib
+import inspect
+import unittest
+
+FUNCTIONS = {
+    "plain": {"is_kind": ["thing"]},
+    "books": {"alike": ["book", "one", "other"], "classes": ["book"], "shortened": ["book"], "knots": ["book"],
+              "peaces": ["book"]},
+    "patterns": {
+        "third": ["book"], "bent": ["book"], "four": ["book"], "paw": ["book"], "pair_and_three": ["book"],
+        "is_third": ["book", "thing"], "is_bent": ["book", "thing"], "is_four": ["book", "thing"],
+        "is_paw": ["book", "thing"], "is_pair_and_three": ["book", "thing"]},
+}
+METHODS = {
+    ("books", "Book"): {
+        "__init__": ["kinds", "clashes"], "clash": ["one", "other"], "clashing": ["kind"], "peaceful": ["kind"],
+        "within": ["other"], "only": ["kinds"], "without": ["kind"], "with_kind": ["kind", "clashing"],
+        "copied": ["kind", "new"], "turned": [], "beside": ["other"], "against": ["other"],
+        "__len__": [], "__contains__": ["kind"], "__eq__": ["other"]},
+}
+STATIC = {("books", "Book"): {"of": ["text"]}}
+PROPERTIES = {("books", "Book"): ["kinds", "clashes", "selfish", "text"]}
+
+
+def the_class(place):
+    return getattr(importlib.import_module("onehostmore." + place[0]), place[1])
+
+
+class Interface(unittest.TestCase):
+
+    def test_functions(self):
+        for file, names in FUNCTIONS.items():
+            module = importlib.import_module("onehostmore." + file)
+            for name, parameters in names.items():
+                found = getattr(module, name)
+                self.assertEqual(found.__module__, "onehostmore." + file)
+                self.assertEqual(list(inspect.signature(found).parameters), parameters, name)
+
+    def test_methods_stand_in_the_class_itself(self):
+        for place, names in METHODS.items():
+            for name, parameters in names.items():
+                found = vars(the_class(place))[name]
+                self.assertEqual(list(inspect.signature(found).parameters)[1:], parameters, name)
+
+    def test_called_off_the_class(self):
+        for place, names in STATIC.items():
+            for name, parameters in names.items():
+                self.assertIn(name, vars(the_class(place)))
+                self.assertEqual(list(inspect.signature(getattr(the_class(place), name)).parameters), parameters)
+
+    def test_properties_without_setters(self):
+        for place, names in PROPERTIES.items():
+            for name in names:
+                found = vars(the_class(place))[name]
+                self.assertIsInstance(found, property)
+                self.assertIsNone(found.fset)
+
+    def test_classes_stand_in_their_files(self):
+        for place in METHODS:
+            self.assertEqual(the_class(place).__module__, "onehostmore." + place[0])
+
+
+if __name__ == "__main__":
+    unittest.main()

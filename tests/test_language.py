@@ -1,0 +1,133 @@
+"""The files of the package keep to the plainest rules of the subset of Python in which it is written."""
+
+import ast
+import builtins
+import pathlib
+import unittest
+
+PACKAGE = pathlib.Path(__file__).resolve().parent.parent / "onehostmore"
+FILES = sorted(PACKAGE.rglob("*.py"))
+TREES = {path: ast.parse(path.read_text(encoding="utf-8")) for path in FILES}
+NODES = [(path, node) for path in FILES for node in ast.walk(TREES[path])]
+
+BUILTINS = """len range enumerate zip min max sum abs sorted reversed int str bool bytes list tuple dict set frozenset
+    isinstance ord repr any all divmod pow Exception ValueError TypeError KeyError IndexError LookupError
+    ZeroDivisionError ArithmeticError OverflowError RuntimeError NotImplementedError AttributeError StopIteration
+    NotImplemented property staticmethod classmethod map""".split()
+METHODS = """append clear copy count endswith extend find get index insert isalnum isalpha isdigit islower isspace isupper
+    items join keys ljust lower lstrip partition pop remove replace reverse rfind rjust rpartition rsplit rstrip
+    setdefault split splitlines startswith strip update upper values zfill bit_length add discard""".split()
+LIBRARY = {"heapq", "math", "itertools", "collections"}
+BARRED = {"register", "mro", "elements", "open", "input", "law", "version_info", "with_traceback", "add_note"}
+DOUBLE = {"__init__", "__eq__", "__repr__", "__str__", "__len__", "__enter__", "__exit__", "__call__", "__iter__",
+          "__contains__", "__getitem__", "__setitem__", "__iadd__", "__lt__", "__bool__"}
+OUTSIDE = (ast.AsyncFor, ast.AsyncFunctionDef, ast.AsyncWith, ast.Await, ast.Global, ast.Div, ast.MatMult,
+           ast.NamedExpr, ast.AnnAssign)
+
+
+class Language(unittest.TestCase):
+
+    def each(self, kind):
+        return [(path, node) for path, node in NODES if isinstance(node, kind)]
+
+    def where(self, path, node):
+        return f"{path.name}:{node.lineno}: {ast.unparse(node)}"
+
+    def test_files(self):
+        self.assertTrue(FILES)
+        self.assertTrue((PACKAGE / "__init__.py").exists())
+        for path in PACKAGE.rglob("*"):
+            if "__pycache__" not in path.parts and path.is_file():
+                self.assertEqual(path.suffix, ".py", path)
+                self.assertEqual(path.name, path.name.lower())
+
+    def test_characters_and_sizes(self):
+        for path in FILES:
+            text = path.read_text(encoding="utf-8")
+            self.assertEqual([sign for sign in text if sign != "\n" and not " " <= sign <= "~"], [], path)
+            lines = text.split("\n")
+            self.assertLess(len(lines), 400, path)
+            self.assertLessEqual(max(map(len, lines)), 120, path)
+        for path, node in self.each(ast.FunctionDef):
+            self.assertLessEqual(node.end_lineno - node.lineno + 1, 40, self.where(path, node))
+
+    def test_module_level(self):
+        for path in FILES:
+            for at, node in enumerate(TREES[path].body):
+                if isinstance(node, ast.Assign):
+                    ast.literal_eval(node.value)
+                elif isinstance(node, ast.Expr):
+                    self.assertTrue(at == 0 and isinstance(node.value.value, str), self.where(path, node))
+                else:
+                    self.assertIsInstance(node, (ast.ImportFrom, ast.FunctionDef, ast.ClassDef))
+
+    def test_imports(self):
+        self.assertEqual(self.each(ast.Import), [])
+        for path, node in self.each(ast.ImportFrom):
+            self.assertIn(node, TREES[path].body)
+            self.assertEqual(node.level, 0)
+            if node.module not in LIBRARY:
+                target = PACKAGE / (node.module.removeprefix("onehostmore.") + ".py")
+                self.assertIn(target, FILES)
+                defined = [part.name for part in TREES[target].body if isinstance(part, (ast.FunctionDef, ast.ClassDef))]
+                for alias in node.names:
+                    self.assertIn(alias.name, defined)
+                    self.assertIsNone(alias.asname)
+
+    def test_names(self):
+        bound = [node.id for _, node in self.each(ast.Name) if not isinstance(node.ctx, ast.Load)]
+        bound += [node.arg for _, node in self.each(ast.arg)]
+        bound += [node.name for _, node in self.each((ast.FunctionDef, ast.ClassDef))]
+        for name in bound:
+            self.assertNotIn(name, vars(builtins))
+            self.assertNotIn(name, BARRED)
+            self.assertTrue(not name.startswith("__") or name in DOUBLE, name)
+        for path, node in self.each(ast.Name):
+            if node.id in vars(builtins):
+                self.assertIn(node.id, BUILTINS, self.where(path, node))
+
+    def test_no_other_nodes(self):
+        for path, node in self.each(OUTSIDE):
+            self.fail((path.name, ast.dump(node)))
+        for path, node in self.each(ast.Constant):
+            self.assertNotIsInstance(node.value, (float, complex), self.where(path, node))
+            if isinstance(node.value, str):
+                self.assertNotIn(chr(37), node.value, self.where(path, node))
+
+    def test_decorators(self):
+        for path, node in self.each((ast.FunctionDef, ast.ClassDef)):
+            for decorator in node.decorator_list:
+                self.assertIsInstance(node, ast.FunctionDef)
+                self.assertIn(ast.unparse(decorator), ("property", "staticmethod", "classmethod"))
+
+    def test_methods_that_are_called(self):
+        own = {node.name for _, node in self.each(ast.FunctionDef)}
+        for path, node in self.each(ast.Call):
+            if isinstance(node.func, ast.Attribute):
+                self.assertIn(node.func.attr, own | set(METHODS), self.where(path, node))
+
+    def test_sets_and_generators(self):
+        # Where a class has an __eq__, any, all, min, max, sum and sorted take lists: there is no generator at all.
+        self.assertEqual(self.each((ast.GeneratorExp, ast.Yield, ast.YieldFrom)), [])
+        allowed = set()
+        for _, node in self.each((ast.Call, ast.BinOp)):
+            if isinstance(node, ast.BinOp) and isinstance(node.op, (ast.Sub, ast.BitAnd, ast.BitOr, ast.BitXor)):
+                allowed.update((node.left, node.right))
+            if isinstance(node, ast.Call) and ast.unparse(node.func) in ("sorted", "len"):
+                allowed.update(node.args)
+        allowed.update(node.value for _, node in self.each(ast.Assign))
+        allowed.update(part for _, node in self.each(ast.Compare) for part in node.comparators)
+        for path, node in self.each((ast.Set, ast.SetComp, ast.Call)):
+            if not isinstance(node, ast.Call) or ast.unparse(node.func) == "set":
+                self.assertIn(node, allowed, self.where(path, node))
+
+    def test_errors(self):
+        for path, node in self.each(ast.Raise):
+            if node.exc is not None:
+                self.assertIsInstance(node.exc, ast.Call, self.where(path, node))
+        for path, node in self.each(ast.ExceptHandler):
+            self.assertIsNotNone(node.type, self.where(path, node))
+
+
+if __name__ == "__main__":
+    unittest.main()

@@ -1,0 +1,54 @@
+"""Things of all kinds, for parameters called `thing`, and books to ask."""
+
+import random
+
+from onehostmore.books import Book
+from onehostmore.errors import BadText, NoKind, NoTree, Stopped
+
+
+def nested(inner, depth, wrap=tuple):
+    for _ in range(depth):
+        inner = wrap([inner])
+    return inner
+
+
+# None of these is a KIND or a tuple of KINDs alone.
+STRANGE = [
+    True, False, None, 0, 1, -1, 3, 10 ** 40, "", " ", "-", "A", "a b", "a1", "a_b", "a-b", "a\n", "\n", "\u00e9",
+    "\u0430", "\uff41", "a\u0301", "\u00aa", "\u00df", "\u0131", "0", "None",
+    [], (), [[]], ((),), ["a"], ["a", "b"], ["a", "b", "c"], ["a", "b", "c", "d"], ["a", "b", "c", "d", "e"],
+    (None,), (True, False, True), (1, 2, 3), (0, 1, 2, 3), (0, 1, 2, 3, 4), ("a", 1, "b"), ("a", "b", None),
+    ("a", True, "b", "c"), ("a", "b", "c", ()), ("a", "b", "c", "d", []), (["a"], ["b"], ["c"]), (("a", "b", "c"),),
+    [("a", "b", "c")], (("a",), ("b",), ("c",), ("d",)), ("a", ["b", "c"], "d"), ("a", "", "b"), ("A", "B", "C"),
+    Book(()), Book(("a",)), Book.of("a b c; b-c"), NoKind("a"), BadText(), NoTree(("a", "b", "c", "d")),
+    Stopped(1, "NoJob", 0), (Book(()), Book(()), Book(())), (Book(("a",)),) * 4, (Book(("a",)),) * 5,
+    ("a", Book(("b",)), "c"), (NoKind("a"), "b", "c", "d"), nested("a", 11), nested("a", 12), nested("a", 12, list),
+    nested((), 11), nested(("a", "b", "c"), 11), nested(("a", "b", "c", "d"), 11), nested([True], 11), nested(None, 12),
+    ("a", "b", nested("c", 11)), ("a", "b", "c", nested("d", 11)), (nested("a", 11, list),) * 5,
+]
+
+
+def pairs_of(kinds):
+    return [(one, other) for one in kinds for other in kinds if one <= other]
+
+
+def all_books(kinds):
+    """Each Book with just these kinds."""
+    pairs = pairs_of(kinds)
+    for number in range(2 ** len(pairs)):
+        yield Book(kinds, [pair for at, pair in enumerate(pairs) if number >> at & 1])
+
+
+def some_books(kinds, many, seed):
+    """So many Books with these kinds, from those with few clashes to those with many; always the same ones."""
+    source = random.Random(seed)
+    for _ in range(many):
+        share = source.random()
+        own = source.random()
+        yield Book(kinds, [pair for pair in pairs_of(kinds)
+                           if source.random() < (own if pair[0] == pair[1] else share)])
+
+
+def many_kinds(many):
+    """So many KINDs, ascending: aa, ab, .."""
+    return tuple([chr(97 + at // 26) + chr(97 + at % 26) for at in range(many)])
