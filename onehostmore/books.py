@@ -200,3 +200,9 @@ def _reached(near, start):
                 reached[kind] = True
                 waiting.append(kind)
     return list(reached)
+
+
+def clash_bits(book):
+    """For each kind, by its place in the book, the kinds that clash with it, as bits at their places."""
+    place = {kind: at for at, kind in enumerate(book.kinds)}
+    return [sum([1 << place[other] for other in book.clashing(kind)]) for kind in book.kinds]

@@ -7,6 +7,7 @@ where they must be unlike, a third place clashes with the one and is at peace wi
 where they may be the same, the pair clashes (is at peace) only if the KIND is selfish (is not selfish).
 """
 
+from onehostmore.books import clash_bits
 from onehostmore.plain import ones
 
 THIRD = (3, ((1, 2),), ((1, 2),))
@@ -79,16 +80,10 @@ def _is_such(book, pattern, thing):
 def _least(book, pattern):
     """The least tuple of KINDs that is of this pattern; None if there is none."""
     # Which KIND is not greater needs no look: what fits fits also turned round, and of both the least rises.
-    chosen = _filled(_clash_bits(book), pattern, [])
+    chosen = _filled(clash_bits(book), pattern, [])
     if chosen is None:
         return None
     return tuple([book.kinds[at] for at in chosen])
-
-
-def _clash_bits(book):
-    """For each kind, by its place in the book, the kinds that clash with it, as bits at their places."""
-    place = {kind: at for at, kind in enumerate(book.kinds)}
-    return [sum([1 << place[other] for other in book.clashing(kind)]) for kind in book.kinds]
 
 
 def _filled(clash, pattern, chosen):

@@ -21,3 +21,8 @@ def ones(bits):
         found.append((bits & -bits).bit_length() - 1)
         bits = bits & (bits - 1)
     return found
+
+
+def is_number(thing):
+    """Whether thing is a number: an int that is no bool."""
+    return isinstance(thing, int) and not isinstance(thing, bool)

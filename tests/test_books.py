@@ -5,30 +5,15 @@ import unittest
 
 from onehostmore.books import Book, alike, classes, knots, peaces, shortened
 from onehostmore.errors import BadText, Known, NoKind, OtherKinds, Twice
-from things import STRANGE, all_books, many_kinds, pairs_of, some_books
+from models import clash_by
+from things import STRANGE, Refusing, all_books, many_kinds, pairs_of, some_books
 
 SMALL = [book for kinds in ((), ("a",), ("a", "b"), ("a", "b", "c")) for book in all_books(kinds)]
 GREATER = [book for many in (4, 5, 6, 9) for book in some_books(tuple("bdfhjlnpr"[:many]), 15, many)]
 NAMES = many_kinds(40)
 
 
-def clash_by(book):
-    """What the pairs of the book say: a function that tells whether two kinds clash."""
-    pairs = {frozenset(pair) for pair in book.clashes}
-    return lambda one, other: frozenset((one, other)) in pairs
-
-
-class BookTest(unittest.TestCase):
-
-    def refuses(self, error, kept, act, *given, **named):
-        """The call raises just this error, which keeps just this."""
-        with self.assertRaises(error) as caught:
-            act(*given, **named)
-        self.assertIs(type(caught.exception), error)
-        self.assertEqual(vars(caught.exception), kept)
-
-
-class Making(BookTest):
+class Making(Refusing):
 
     def test_order_does_not_matter(self):
         book = Book(("c", "a", "b"), (("c", "a"), ("b", "b")))
@@ -104,7 +89,7 @@ class Making(BookTest):
                 self.assertIs(type(found), tuple)
 
 
-class Asking(BookTest):
+class Asking(Refusing):
 
     def test_against_the_pairs(self):
         for book in SMALL + GREATER:
@@ -182,7 +167,7 @@ class Asking(BookTest):
             self.refuses(OtherKinds, {"kind": kind}, Book.of(text).within, book)
 
 
-class Derived(BookTest):
+class Derived(Refusing):
 
     def check(self, book, kinds, clash):
         """The book has just these kinds, of which just those clash that the function tells."""
@@ -282,7 +267,7 @@ class Derived(BookTest):
         self.assertEqual(book.against(other=Book(("x",))).text, "a b c x; a-b a-x b-x c-c c-x")
 
 
-class Texts(BookTest):
+class Texts(Refusing):
 
     def test_there_and_back(self):
         for book in SMALL + GREATER:
@@ -338,7 +323,7 @@ class Texts(BookTest):
         self.assertEqual(found, known)
 
 
-class Hanging(BookTest):
+class Hanging(Refusing):
 
     def test_alike(self):
         for book in SMALL + GREATER:
@@ -398,7 +383,7 @@ class Hanging(BookTest):
         self.assertEqual(peaces(book.turned()), (("a", "b", "d", "f"), ("c", "e")))
 
 
-class Bounds(BookTest):
+class Bounds(Refusing):
 
     def test_forty_kinds(self):
         ends = [(NAMES[at], NAMES[at + 1]) for at in range(39)]

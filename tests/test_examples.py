@@ -1,15 +1,21 @@
 """The examples of the document, as they stand there (tests/examples), section by section."""
 
 import ast
+import importlib
 import pathlib
 import unittest
 
-from onehostmore import books, errors, patterns, plain
+from onehostmore import errors
 
 FOLDER = pathlib.Path(__file__).resolve().parent / "examples"
-NAMES = {}
-for module in (errors, plain, books, patterns):
-    NAMES.update({name: worth for name, worth in vars(module).items() if not name.startswith("_")})
+
+# How many examples each section has, and the files of which it speaks.
+SECTIONS = {
+    3: (16, ("errors", "plain", "books", "patterns")),
+    4: (9, ("trees", "sorts")),
+    5: (15, ("crowds",)),
+    6: (12, ("forced",)),
+}
 
 
 def examples(text):
@@ -24,13 +30,17 @@ def examples(text):
     return found
 
 
+def read(section):
+    return examples((FOLDER / f"section_{section:02}.txt").read_text(encoding="ascii"))
+
+
 class Examples(unittest.TestCase):
 
     def check_error(self, statement, told, names):
         call = ast.parse(told, mode="eval").body
         with self.assertRaises(Exception) as caught:
             exec(statement, names)
-        self.assertIs(type(caught.exception), NAMES[call.func.id])
+        self.assertIs(type(caught.exception), getattr(errors, call.func.id))
         kept = {part.arg: ast.literal_eval(part.value) for part in call.keywords}
         self.assertEqual(vars(caught.exception), kept)
 
@@ -43,20 +53,37 @@ class Examples(unittest.TestCase):
             exec(statement, names)
 
     def test_examples(self):
-        files = sorted(FOLDER.glob("section_*.txt"))
-        self.assertTrue(files)
-        for path in files:
-            names = dict(NAMES)
-            for statement, told in examples(path.read_text(encoding="ascii")):
-                with self.subTest(file=path.name, statement=statement):
+        # What a section names is known in those behind it, too.
+        names = {}
+        for section, (_, files) in SECTIONS.items():
+            for file in files:
+                names.update(vars(importlib.import_module("onehostmore." + file)))
+            for statement, told in read(section):
+                with self.subTest(section=section, statement=statement):
                     self.check(statement, told, names)
 
-    def test_all_of_section_3_is_here(self):
-        found = examples((FOLDER / "section_03.txt").read_text(encoding="ascii"))
-        self.assertEqual(len(found), 16)
-        self.assertEqual([told for _, told in found if told.startswith("raises")], [
+    def test_none_is_left_out(self):
+        self.assertEqual(sorted(path.name for path in FOLDER.iterdir()),
+                         [f"section_{section:02}.txt" for section in SECTIONS])
+        for section, (many, _) in SECTIONS.items():
+            self.assertEqual(len(read(section)), many)
+
+    def test_examples_of_the_readme(self):
+        text = (FOLDER.parent.parent / "README.md").read_text(encoding="ascii")
+        found = examples("\n".join(line[4:] for line in text.splitlines() if line.startswith(("    >>> ", "    ("))))
+        self.assertGreater(len(found), 10)
+        names = {}
+        for statement, told in found:
+            self.check(statement, told, names)
+
+    def test_examples_that_raise_an_error(self):
+        found = [told for section in SECTIONS for _, told in read(section) if told.startswith("raises")]
+        self.assertEqual(found, [
             "raises Twice(kind='a')", "raises NoKind(kind='c')", "raises BadText()", "raises OtherKinds(kind='c')",
-            "raises Known(kind='a')"])
+            "raises Known(kind='a')",
+            "raises NoTree(four=('a', 'b', 'c', 'd'))", "raises BadText()",
+            "raises NoTree(four=('a', 'b', 'c', 'd'))", "raises NoKind(kind='mail')",
+            "raises NoKind(kind='zz')"])
 
 
 if __name__ == "__main__":

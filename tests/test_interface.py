@@ -12,6 +12,23 @@ FUNCTIONS = {
         "third": ["book"], "bent": ["book"], "four": ["book"], "paw": ["book"], "pair_and_three": ["book"],
         "is_third": ["book", "thing"], "is_bent": ["book", "thing"], "is_four": ["book", "thing"],
         "is_paw": ["book", "thing"], "is_pair_and_three": ["book", "thing"]},
+    "trees": {
+        "has_tree": ["book"], "tree_of": ["book"], "is_tree": ["thing"], "tree_kinds": ["tree"], "book_of": ["tree"],
+        "meeting_word": ["tree", "one", "other"], "turned_tree": ["tree"], "tree_text": ["tree"], "tree_in": ["text"],
+        "least_out": ["book"]},
+    "sorts": {"is_of": ["sort", "book"], "sorts_of": ["book"], "how_many": ["sort", "number"],
+              "books_of": ["sort", "kinds"]},
+    "crowds": {
+        "is_crowd": ["book", "thing"], "crowd_of": ["kinds"], "together": ["one", "other"], "jobs_in": ["crowd"],
+        "need": ["book", "crowd"], "lot": ["book", "crowd"], "is_lot": ["book", "crowd", "thing"],
+        "placing": ["book", "crowd"], "is_placing": ["book", "crowd", "thing"], "hosts_in": ["placing"],
+        "room": ["book", "crowd", "kind"], "weighty": ["book", "crowd"], "sets_by_need": ["book"],
+        "is_row": ["book", "thing"], "there": ["row"], "crowds_along": ["row"], "needs": ["book", "row"],
+        "peaks": ["book", "row"]},
+    "forced": {
+        "is_sense": ["thing"], "sort_of": ["sense"], "never": ["book", "sense"], "all_never": ["book"],
+        "follows": ["one", "other"], "parting_book": ["one", "other"], "row_against": ["book", "sense"],
+        "how_long": ["book", "sense"], "beats": ["book", "sense", "row"], "least_waste": ["book", "row", "measure"]},
 }
 METHODS = {
     ("books", "Book"): {

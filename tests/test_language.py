@@ -55,11 +55,24 @@ class Language(unittest.TestCase):
         for path in FILES:
             for at, node in enumerate(TREES[path].body):
                 if isinstance(node, ast.Assign):
-                    ast.literal_eval(node.value)
+                    self.check_value(node.value, [part.name for part in TREES[path].body[:at]
+                                                  if isinstance(part, ast.FunctionDef)])
                 elif isinstance(node, ast.Expr):
                     self.assertTrue(at == 0 and isinstance(node.value.value, str), self.where(path, node))
                 else:
                     self.assertIsInstance(node, (ast.ImportFrom, ast.FunctionDef, ast.ClassDef))
+
+    def check_value(self, value, functions):
+        """A plain value, or a dict of plain values and of functions defined above."""
+        if isinstance(value, ast.Dict):
+            for key, part in zip(value.keys, value.values):
+                ast.literal_eval(key)
+                if isinstance(part, ast.Name):
+                    self.assertIn(part.id, functions)
+                else:
+                    ast.literal_eval(part)
+        else:
+            ast.literal_eval(value)
 
     def test_imports(self):
         self.assertEqual(self.each(ast.Import), [])
@@ -85,6 +98,64 @@ class Language(unittest.TestCase):
         for path, node in self.each(ast.Name):
             if node.id in vars(builtins):
                 self.assertIn(node.id, BUILTINS, self.where(path, node))
+
+    def test_names_of_imports_and_classes_mean_nothing_else(self):
+        for path in FILES:
+            taken = [alias.name for node in TREES[path].body if isinstance(node, ast.ImportFrom) for alias in node.names]
+            classes = [node.name for node in TREES[path].body if isinstance(node, ast.ClassDef)]
+            self.assertEqual(len(set(taken)), len(taken), path)
+            inner = [node.id for node in ast.walk(TREES[path]) if isinstance(node, ast.Name)
+                     and not isinstance(node.ctx, ast.Load)]
+            inner += [node.arg for node in ast.walk(TREES[path]) if isinstance(node, ast.arg)]
+            self.assertEqual(set(inner) & {*taken, *classes}, set(), path)
+            level = [node.name for node in TREES[path].body if isinstance(node, (ast.FunctionDef, ast.ClassDef))]
+            level += [node.targets[0].id for node in TREES[path].body if isinstance(node, ast.Assign)]
+            self.assertEqual(len({*level, *taken}), len(level) + len(taken), path)
+
+    def test_imports_go_one_way(self):
+        needs = {path: {PACKAGE / (node.module.removeprefix("onehostmore.") + ".py") for node in TREES[path].body
+                        if isinstance(node, ast.ImportFrom)} & set(FILES) for path in FILES}
+        for path in FILES:
+            reached, waiting = set(), [path]
+            while waiting:
+                for other in needs[waiting.pop()] - reached:
+                    reached.add(other)
+                    waiting.append(other)
+            self.assertNotIn(path, reached)
+
+    def test_is_and_exponents(self):
+        for path, node in self.each(ast.Compare):
+            for sign, part in zip(node.ops, node.comparators):
+                if isinstance(sign, (ast.Is, ast.IsNot)):
+                    self.assertIsInstance(part, ast.Constant, self.where(path, node))
+                    self.assertIn(part.value, (None, True, False))
+        for path, node in self.each(ast.BinOp):
+            if isinstance(node.op, ast.Pow):
+                self.assertIsInstance(node.right, ast.Constant, self.where(path, node))
+
+    def test_comprehensions_within_others_have_names_of_their_own(self):
+        kinds = (ast.ListComp, ast.SetComp, ast.DictComp)
+        for path, outer in self.each((*kinds, ast.Lambda)):
+            inner = [node for node in ast.walk(outer) if isinstance(node, kinds) and node is not outer]
+            for node in inner:
+                names = [part.id for made in node.generators for part in ast.walk(made.target) if isinstance(part, ast.Name)]
+                if isinstance(outer, ast.Lambda):
+                    above = [part.arg for part in outer.args.args]
+                else:
+                    above = [part.id for made in outer.generators for part in ast.walk(made.target)
+                             if isinstance(part, ast.Name)]
+                self.assertEqual(set(names) & set(above) - {"_"}, set(), self.where(path, outer))
+
+    def test_what_is_gone_through_is_not_changed(self):
+        """A plain look: no loop calls a method that changes, or assigns an item of, what its head names."""
+        changing = {"append", "clear", "extend", "insert", "pop", "remove", "reverse", "setdefault", "update", "add"}
+        for path, node in self.each(ast.For):
+            heads = {ast.unparse(part) for part in ast.walk(node.iter) if isinstance(part, (ast.Name, ast.Attribute))}
+            for part in [inner for row in node.body for inner in ast.walk(row)]:
+                if isinstance(part, ast.Call) and isinstance(part.func, ast.Attribute) and part.func.attr in changing:
+                    self.assertNotIn(ast.unparse(part.func.value), heads, self.where(path, node))
+                if isinstance(part, ast.Subscript) and not isinstance(part.ctx, ast.Load):
+                    self.assertNotIn(ast.unparse(part.value), heads, self.where(path, node))
 
     def test_no_other_nodes(self):
         for path, node in self.each(OUTSIDE):

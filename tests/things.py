@@ -1,6 +1,7 @@
 """Things of all kinds, for parameters called `thing`, and books to ask."""
 
 import random
+import unittest
 
 from onehostmore.books import Book
 from onehostmore.errors import BadText, NoKind, NoTree, Stopped
@@ -52,3 +53,42 @@ def some_books(kinds, many, seed):
 def many_kinds(many):
     """So many KINDs, ascending: aa, ab, .."""
     return tuple([chr(97 + at // 26) + chr(97 + at % 26) for at in range(many)])
+
+
+def deep_book(kinds, step):
+    """A Book with a deep TREE: each kind beside or against all ahead of it; each so manyth one is selfish."""
+    book = Book(())
+    for at, kind in enumerate(kinds):
+        one = Book((kind,), ((kind, kind),) if at % step == 0 else ())
+        book = book.against(one) if at & 1 else book.beside(one)
+    return book
+
+
+def lists_for(value):
+    """The value with lists for tuples, at any depth."""
+    return [lists_for(part) for part in value] if isinstance(value, (list, tuple)) else value
+
+
+def bent_things(thing, others):
+    """Things that differ from a nested tuple in one place: one part is another one, is left out, stands twice ..."""
+    yield from others
+    if isinstance(thing, tuple):
+        yield list(thing)
+        yield lists_for(thing)
+        yield (thing,)
+        for at, part in enumerate(thing):
+            yield (*thing[:at], *thing[at + 1:])
+            yield (*thing[:at + 1], *thing[at:])
+            yield (*thing[:at], *thing[at:][::-1])
+            for other in bent_things(part, others):
+                yield (*thing[:at], other, *thing[at + 1:])
+
+
+class Refusing(unittest.TestCase):
+
+    def refuses(self, error, kept, act, *given, **named):
+        """The call raises just this error, which keeps just this."""
+        with self.assertRaises(error) as caught:
+            act(*given, **named)
+        self.assertIs(type(caught.exception), error)
+        self.assertEqual(repr(vars(caught.exception)), repr(kept))
