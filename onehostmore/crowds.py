@@ -313,3 +313,8 @@ def peaks(book, row):
     """For each of the CROWDs along the ROW the greatest need up to it."""
     along = needs(book, row)
     return [max(along[:at + 1]) for at in range(len(along))]
+
+
+def allowed(book, row, measure):
+    """How many hosts may be open behind each deed without waste."""
+    return needs(book, row)[1:] if measure == "moment" else peaks(book, row)[1:]

@@ -1,7 +1,7 @@
 """SENSEs: whether keepers can be made to waste hosts, and the ROWs that do it."""
 
 from onehostmore.books import shortened
-from onehostmore.crowds import needs, peaks
+from onehostmore.crowds import allowed
 from onehostmore.patterns import bent, four, pair_and_three, paw, third
 from onehostmore.sorts import books_of, is_of
 
@@ -114,22 +114,17 @@ def beats(book, sense, row):
     if who == "some":
         beaten = least_waste(book, row, measure) > 0
     else:
-        beaten = _wasted(book, row, _bounds(book, row, measure), who)
+        beaten = _wasted(book, row, allowed(book, row, measure), who)
     return beaten and not (deeds == "comings" and "go" in [word for word, _ in row])
 
 
 def least_waste(book, row, measure):
     """The least number for which some keeper's waste behind no deed of the ROW is greater."""
-    bounds = _bounds(book, row, measure)
+    bounds = allowed(book, row, measure)
     waste = 0
     while not _can_keep(book, row, [bound + waste for bound in bounds]):
         waste += 1
     return waste
-
-
-def _bounds(book, row, measure):
-    """How many hosts may be open behind each deed without waste; raises NoKind."""
-    return needs(book, row)[1:] if measure == "moment" else peaks(book, row)[1:]
 
 
 def _can_keep(book, row, bounds):

@@ -122,6 +122,67 @@ def all_runs(book, row, who):
     return [(run, counts) for run, counts, _ in states]
 
 
+def alike_by(book, one, other):
+    """Whether two kinds are alike by the words of the document."""
+    clash = clash_by(book)
+    if one == other:
+        return True
+    same = clash(one, one) == clash(other, other) == clash(one, other)
+    return same and all(clash(one, third) == clash(other, third) for third in book.kinds if third not in (one, other))
+
+
+def told_choice(book, hosts, kind, word):
+    """The number of the host that the table tells, hosts being pairs (number, KINDs); None if there is none."""
+    clash = clash_by(book)
+    free = [(number, kinds) for number, kinds in hosts if not any(clash(kind, other) for other in kinds)]
+    if not free:
+        return None
+    numbers = [number for number, _ in free]
+    if word == "last":
+        return max(numbers)
+    if word == "full":
+        most = max(len(kinds) for _, kinds in free)
+        return min(number for number, kinds in free if len(kinds) == most)
+    if word == "empty":
+        fewest = min(len(kinds) for _, kinds in free)
+        return min(number for number, kinds in free if len(kinds) == fewest)
+    if word == "alike":
+        same = [number for number, kinds in free if any(alike_by(book, kind, other) for other in kinds)]
+        return min(same or numbers)
+    return min(numbers)
+
+
+def told_hosts(hosts):
+    """HOSTS, as the document tells them, of an object of the class above."""
+    return tuple((number, tuple(sorted(jobs.values()))) for number, jobs in sorted(hosts.hosts.items()))
+
+
+def told_run(book, row, word):
+    """The RUN of the keeper of this word."""
+    hosts, run = Hosts(), ()
+    for deed, what in row:
+        if deed == "go":
+            hosts = hosts.gone(what)
+        else:
+            number = told_choice(book, told_hosts(hosts), what, word)
+            number = hosts.opened if number is None else number
+            hosts = hosts.put(number, len(run), what)
+            run = (*run, number)
+    return run
+
+
+def hosts_along(row, run):
+    """The open hosts at the beginning and behind each deed."""
+    found, came = [Hosts()], 0
+    for deed, what in row:
+        if deed == "go":
+            found.append(found[-1].gone(what))
+        else:
+            found.append(found[-1].put(run[came], came, what))
+            came += 1
+    return found
+
+
 def limits(book, row, measure):
     """How many hosts can be open behind each deed without waste."""
     needs = [need_behind(book, row[:deeds]) for deeds in range(len(row) + 1)]

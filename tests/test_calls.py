@@ -16,6 +16,8 @@ CROWD = (("db", 3), ("log", 2), ("web", 9))
 PLACED = (((("db", 1),), 2), ((("log", 2),), 1))
 ROW = (("come", "a"), ("come", "d"), ("go", 0), ("come", "b"), ("come", "c"))
 SENSE = ("goings", "peak", "lazy")
+RUN = (0, 0, 1, 2)
+PILE = (("a", "d"), ("b",), ("c",))
 
 CALLS = {
     "has_tree": (CHAIN,), "tree_of": (PORTS,), "is_tree": (TREE,), "tree_kinds": (TREE,), "book_of": (TREE,),
@@ -32,6 +34,15 @@ CALLS = {
     "follows": (SENSE, ("comings", "peak", "some")), "parting_book": (("comings", "peak", "some"), SENSE),
     "row_against": (CHAIN, SENSE), "how_long": (CHAIN, SENSE), "beats": (CHAIN, SENSE, ROW),
     "least_waste": (CHAIN, ROW, "peak"),
+    "kinds_of": (ROW,), "hosts_behind": (ROW, RUN, 3), "opens": (ROW, RUN), "wastes": (CHAIN, ROW, RUN, "moment"),
+    "first_waste": (CHAIN, ROW, RUN, "moment"), "is_run": (CHAIN, ROW, (0, 0, 1, 2)), "not_lazy_at": (CHAIN, ROW, RUN),
+    "is_lazy": (CHAIN, ROW, RUN), "not_by": (CHAIN, ROW, RUN, "last"),
+    "how_many_runs": (CHAIN, ROW), "runs": (CHAIN, ROW), "run_at": (CHAIN, ROW, 0),
+    "number_of_run": (CHAIN, ROW, (0, 0, 0, 1)), "opens_counted": (CHAIN, ROW), "least_open": (CHAIN, ROW),
+    "most_open": (CHAIN, ROW), "wasting": (CHAIN, ROW, "moment"), "beating": (CHAIN, "alike", "peak"),
+    "pieces": (CHAIN,), "tallest": (CHAIN,), "most_hosts": (CHAIN,), "is_spread": (CHAIN, PILE), "is_pile": (CHAIN, PILE),
+    "row_of": (PILE,), "most_waste": (CHAIN,), "wasting_row": (CHAIN,),
+    "bad_four": (CHAIN, ("a", "d", "b", "c")), "fine_order": (CHAIN,), "how_many_fine": (CHAIN,),
 }
 EARLIER = ("plain", "books", "patterns")
 FOUND = {name: getattr(importlib.import_module("onehostmore." + file), name)
@@ -74,8 +85,8 @@ class Calls(unittest.TestCase):
     def test_lists_for_things(self):
         for name, given in CALLS.items():
             if "thing" in self.parameters(name):
-                self.assertIs(FOUND[name](*given), True, name)
-                self.assertIs(FOUND[name](*given[:-1], lists_for(given[-1])), False, name)
+                right, wrong = FOUND[name](*given), FOUND[name](*given[:-1], lists_for(given[-1]))
+                self.assertEqual((right, wrong), (0, None) if name == "number_of_run" else (True, False), name)
 
     def test_arguments_stay_as_they_are(self):
         for name, given in CALLS.items():

@@ -15,6 +15,9 @@ SECTIONS = {
     4: (9, ("trees", "sorts")),
     5: (15, ("crowds",)),
     6: (12, ("forced",)),
+    7: (13, ("keepers",)),
+    8: (8, ("runs",)),
+    9: (7, ("most", "ranks")),
 }
 
 
@@ -83,7 +86,8 @@ class Examples(unittest.TestCase):
             "raises Known(kind='a')",
             "raises NoTree(four=('a', 'b', 'c', 'd'))", "raises BadText()",
             "raises NoTree(four=('a', 'b', 'c', 'd'))", "raises NoKind(kind='mail')",
-            "raises NoKind(kind='zz')"])
+            "raises NoKind(kind='zz')", "raises NoKeeper(given='best')", "raises NoNumber(number=4)",
+            "raises Selfish(kind='b')"])
 
 
 if __name__ == "__main__":

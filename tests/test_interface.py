@@ -29,16 +29,34 @@ FUNCTIONS = {
         "is_sense": ["thing"], "sort_of": ["sense"], "never": ["book", "sense"], "all_never": ["book"],
         "follows": ["one", "other"], "parting_book": ["one", "other"], "row_against": ["book", "sense"],
         "how_long": ["book", "sense"], "beats": ["book", "sense", "row"], "least_waste": ["book", "row", "measure"]},
+    "keepers": {
+        "kinds_of": ["row"], "hosts_behind": ["row", "run", "deeds"], "opens": ["row", "run"],
+        "wastes": ["book", "row", "run", "measure"], "first_waste": ["book", "row", "run", "measure"],
+        "is_run": ["book", "row", "thing"], "not_lazy_at": ["book", "row", "run"], "is_lazy": ["book", "row", "run"],
+        "not_by": ["book", "row", "run", "word"]},
+    "runs": {
+        "how_many_runs": ["book", "row"], "runs": ["book", "row", "most"], "run_at": ["book", "row", "number"],
+        "number_of_run": ["book", "row", "thing"], "opens_counted": ["book", "row"], "least_open": ["book", "row"],
+        "most_open": ["book", "row"], "wasting": ["book", "row", "measure"],
+        "beating": ["book", "who", "measure", "goings", "most"]},
+    "most": {
+        "pieces": ["book"], "tallest": ["book"], "most_hosts": ["book"], "is_spread": ["book", "thing"],
+        "is_pile": ["book", "thing"], "row_of": ["pile"], "most_waste": ["book"], "wasting_row": ["book"]},
+    "ranks": {"bad_four": ["book", "order"], "fine_order": ["book"], "how_many_fine": ["book"]},
 }
+# The arguments that are passed by name alone, with what they are if nothing is said.
+BY_NAME = {("runs", "runs"): {"most": 2000}, ("runs", "beating"): {"goings": True, "most": 5}}
 METHODS = {
     ("books", "Book"): {
         "__init__": ["kinds", "clashes"], "clash": ["one", "other"], "clashing": ["kind"], "peaceful": ["kind"],
         "within": ["other"], "only": ["kinds"], "without": ["kind"], "with_kind": ["kind", "clashing"],
         "copied": ["kind", "new"], "turned": [], "beside": ["other"], "against": ["other"],
         "__len__": [], "__contains__": ["kind"], "__eq__": ["other"]},
+    ("keepers", "Keeper"): {"__init__": ["word"], "__eq__": ["other"], "choice": ["book", "hosts", "kind"],
+                            "run": ["book", "row"]},
 }
 STATIC = {("books", "Book"): {"of": ["text"]}}
-PROPERTIES = {("books", "Book"): ["kinds", "clashes", "selfish", "text"]}
+PROPERTIES = {("books", "Book"): ["kinds", "clashes", "selfish", "text"], ("keepers", "Keeper"): ["word"]}
 
 
 def the_class(place):
@@ -54,6 +72,14 @@ class Interface(unittest.TestCase):
                 found = getattr(module, name)
                 self.assertEqual(found.__module__, "onehostmore." + file)
                 self.assertEqual(list(inspect.signature(found).parameters), parameters, name)
+
+    def test_arguments_by_name_alone(self):
+        for file, names in FUNCTIONS.items():
+            module = importlib.import_module("onehostmore." + file)
+            for name in names:
+                found = {part.name: part.default for part in inspect.signature(getattr(module, name)).parameters.values()
+                         if part.kind is part.KEYWORD_ONLY}
+                self.assertEqual(found, BY_NAME.get((file, name), {}))
 
     def test_methods_stand_in_the_class_itself(self):
         for place, names in METHODS.items():

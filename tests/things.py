@@ -64,6 +64,20 @@ def deep_book(kinds, step):
     return book
 
 
+def some_row(source, kinds, length):
+    """A ROW of so many deeds of these kinds, comings and goings; always the same one of the same source."""
+    row, present, came = [], [], 0
+    while len(row) < length and (kinds or present):
+        if present and (not kinds or source.random() < 0.4):
+            job = present.pop(source.randrange(len(present)))
+            row.append(("go", job))
+        else:
+            row.append(("come", source.choice(kinds)))
+            present.append(came)
+            came += 1
+    return tuple(row)
+
+
 def lists_for(value):
     """The value with lists for tuples, at any depth."""
     return [lists_for(part) for part in value] if isinstance(value, (list, tuple)) else value
