@@ -109,14 +109,15 @@ def _tallest_of_piece(book):
 
 
 def _wasting_of_piece(book):
+    # What can not be parted has a four, so there always is some waste.
     if not _has_ring(book):
-        # What has no ring of clashes, but some clash, needs two hosts.
+        # Without a ring of clashes two hosts are enough.
         pile = _tallest_of_piece(book)
-        return (len(pile) - 2, row_of(pile)) if len(pile) > 2 else (0, ())
+        return (len(pile) - 2, row_of(pile))
     piles = _piles(clash_bits(book))
     fewest = _fewest(clash_bits(book))
     waste, kinds = max([(len(pile) - fewest[at], at) for at, pile in enumerate(piles)])
-    return (waste, row_of(_named(book, piles[kinds]))) if waste > 0 else (0, ())
+    return (waste, row_of(_named(book, piles[kinds])))
 
 
 def _has_ring(book):

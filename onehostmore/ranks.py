@@ -25,9 +25,10 @@ def how_many_fine(book):
 
 def _fours(book):
     """All fours of the book, ascending."""
-    clash = [bits & ~(1 << at) for at, bits in enumerate(clash_bits(book))]
+    # Kinds that clash with themselves need no rule of their own: what is the same kind twice can not be gone on with.
+    clash = clash_bits(book)
     found = [(a, b, c, d) for a in range(len(clash)) for b in ones(clash[a])
-             for c in ones(clash[b] & ~clash[a] & ~(1 << a))
+             for c in ones(clash[b] & ~clash[a])
              for d in ones(clash[c] & ~clash[a] & ~clash[b]) if a < d]
     return [tuple([book.kinds[at] for at in four]) for four in found]
 

@@ -120,7 +120,6 @@ def meeting_word(tree, one, other):
     for kind in (one, other):
         if kind not in kinds:
             raise NoKind(kind)
-    part = tree
     inner = [tree]
     while inner:
         part = inner[0]
@@ -151,14 +150,14 @@ def tree_text(tree):
 def tree_in(text):
     """The TREE with just this text."""
     tree = ("none",) if text == "-" else _part_in(text)
-    # What was read too kindly shows in the text that it would have.
+    # What was read too kindly shows: it is no TREE, or has another text.
     if not is_tree(tree) or tree_text(tree) != text:
         raise BadText()
     return tree
 
 
 def _part_in(text):
-    """The part that a text tells, maybe none that may be so; None if its brackets do not close one another."""
+    """The part with which a text begins, read kindly; None if there is none."""
     for bracket in "([":
         text = text.replace(bracket, bracket + " ")
     for bracket in ")]":
@@ -169,18 +168,18 @@ def _part_in(text):
             within.append([WORDS_IN[word]])
         elif word not in (")", "]"):
             within[-1].append(("one", word.rstrip("*"), int(word.endswith("*"))))
-        elif len(within) == 1:
-            return None
-        else:
+        elif len(within) > 1:
             part = within.pop()
             within[-1].append(tuple(part))
-    return within[0][0] if len(within) == 1 and within[0] else None
+    return within[0][0] if within[0] else None
 
 
 def least_out(book):
     """The least of the sets with fewest kinds without which the book has a TREE."""
     sets = [ones(bits) for bits in range(1 << len(book))]
+    least = ()
     for _, out in sorted([(len(places), places) for places in sets]):
-        if _is_whole(parted(book, [kind for at, kind in enumerate(book.kinds) if at not in out])):
-            return tuple([book.kinds[at] for at in out])
-    return book.kinds
+        least = tuple([book.kinds[at] for at in out])
+        if _is_whole(parted(book, [kind for kind in book.kinds if kind not in least])):
+            break
+    return least

@@ -268,6 +268,19 @@ class Placings(Refusing):
             self.assertIs(is_placing(book, crowd, thing), False)
             self.assertIs(is_placing(book, (), thing), thing == ())
 
+    def test_empty_hosts_and_numbers_below_one(self):
+        a, both = (("a", 1),), (("a", 1), ("b", 1))
+        crowd = (("a", 3), ("b", 2))
+        self.assertIs(is_placing(Book(("a", "b")), crowd, ((a, 1), (both, 2))), True)
+        for thing in ((((), 1), (a, 1), (both, 2)), (((), 0), (a, 1), (both, 2)), (((), True), (a, 1), (both, 2)),
+                      ((a, 1), (both, 2), ((("b", 1),), 0)), ((a, 0), (both, 2), ((("a", 1), ("b", 2)), 0)),
+                      ((a, -1), (both, 2), ((("a", 2),), 1)), ((a, True), (both, 2)), ((both, 2), (a, 1)),
+                      ((a, 1), (both, 1), (both, 1)), ((a, 1, 1), (both, 2)), ((a, 1), (both,))):
+            self.assertIs(is_placing(Book(("a", "b")), crowd, thing), False, thing)
+        self.assertIs(is_placing(Book(("a", "b")), crowd, ((a, -1), ((("a", 2), ("b", 1)), 2))), False)
+        for thing in ((((), 1),), (((), 0),), ((a, 0),)):
+            self.assertIs(is_placing(Book(("a", "b")), (), thing), False)
+
     def test_without_a_tree(self):
         two = (((("a", 1), ("c", 1)), 1), ((("b", 1), ("d", 1)), 1))
         three = (((("a", 1), ("d", 1)), 1), ((("b", 1),), 1), ((("c", 1),), 1))

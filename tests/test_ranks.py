@@ -57,7 +57,12 @@ class Ranks(unittest.TestCase):
         self.assertIsNone(fine_order(PENT))
         self.assertIsNone(fine_order(PENT.beside(Book(("f", "g")))))
         self.assertEqual(fine_order(Book(kinds)), kinds)
-        for book in [ring, ring.turned(), *some_books(kinds, 12, 4)]:
+        # In these a beginning without a bad four leads to no order without one.
+        blind = [Book.of("a b c d e f g; " + pairs) for pairs in (
+            "a-c a-d b-d c-d c-g d-e e-g", "a-d b-f d-g e-f e-g", "a-c a-d a-e a-f b-d b-e b-f c-e c-g d-e d-g")]
+        self.assertEqual([fine_order(book) for book in blind],
+                         [tuple("bcadefg"), tuple("acdgefb"), tuple("acdbefg")])
+        for book in [ring, ring.turned(), *blind, *some_books(kinds, 12, 4)]:
             fours = [thing for thing in itertools.permutations(kinds, 4) if is_four(book, thing)]
             told = None
             for order in itertools.permutations(kinds):
