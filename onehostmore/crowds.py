@@ -50,7 +50,7 @@ def ask_for(book, kinds):
 def need(book, crowd):
     """The fewest hosts on which all jobs of the CROWD can stand."""
     numbers = _numbers(book, crowd)
-    return _need(book, parted(book, list(numbers)), numbers)
+    return need_of_part(book, parted(book, list(numbers)), numbers)
 
 
 def _numbers(book, crowd):
@@ -59,7 +59,7 @@ def _numbers(book, crowd):
     return {kind: number for kind, number in crowd}
 
 
-def _need(book, part, numbers):
+def need_of_part(book, part, numbers):
     """The need of the jobs of one part, with a number, maybe 0, for each of its KINDs."""
     if part[0] == "none":
         return 0
@@ -68,7 +68,7 @@ def _need(book, part, numbers):
         return number if part[2] == 1 else min(number, 1)
     if part[0] == "piece":
         return _need_of_piece(book, part[1], numbers)
-    below = [_need(book, inner, numbers) for inner in part[1:]]
+    below = [need_of_part(book, inner, numbers) for inner in part[1:]]
     return max(below) if part[0] == "side" else sum(below)
 
 
@@ -210,23 +210,23 @@ def room(book, crowd, kind):
     many = numbers.get(kind, 0)
     numbers[kind] = many
     tree = _tree(book, list(numbers))
-    now = _need(book, tree, numbers)
+    now = need_of_part(book, tree, numbers)
     if not book.clash(kind, kind):
         numbers[kind] = many + 1
-        return None if _need(book, tree, numbers) == now else 0
+        return None if need_of_part(book, tree, numbers) == now else 0
     # From some number on, which the number of all jobs reaches, each further job needs one host more:
     # going back from there, one host less for each job less, one comes to the last number with the need of now.
     far = many + jobs_in(crowd)
     numbers[kind] = far
-    return far - (_need(book, tree, numbers) - now) - many
+    return far - (need_of_part(book, tree, numbers) - now) - many
 
 
 def weighty(book, crowd):
     """The set of the KINDs of one job of which less the need is less."""
     numbers = _numbers(book, crowd)
     tree = parted(book, list(numbers))
-    now = _need(book, tree, numbers)
-    return tuple([kind for kind in numbers if _need(book, tree, {**numbers, kind: numbers[kind] - 1}) < now])
+    now = need_of_part(book, tree, numbers)
+    return tuple([kind for kind in numbers if need_of_part(book, tree, {**numbers, kind: numbers[kind] - 1}) < now])
 
 
 def sets_by_need(book):
@@ -287,15 +287,9 @@ def is_row(book, thing):
 
 def there(row):
     """The pairs (job, KIND) of the jobs that are there behind the ROW, ascending."""
-    present = {}
-    came = 0
-    for word, what in row:
-        if word == "come":
-            present[came] = what
-            came += 1
-        else:
-            del present[what]
-    return tuple(present.items())
+    kinds = [what for word, what in row if word == "come"]
+    gone = {what: True for word, what in row if word == "go"}
+    return tuple([(job, kind) for job, kind in enumerate(kinds) if job not in gone])
 
 
 def crowds_along(row):

@@ -160,7 +160,8 @@ def _behind(book, row, at, states, who):
             job = len([deed for deed in row[:at] if deed[0] == "come"])
             for place in _places(book.clashing(what), state, who):
                 host = (*state[place], (job, what)) if place < len(state) else ((job, what),)
-                found[(*state[:place], host, *state[place + 1:])] = True
+                hosts = (*state[:place], host, *state[place + 1:])
+                found[hosts] = True
     return list(found)
 
 

@@ -48,23 +48,24 @@ def most_hosts(book):
 
 def tallest(book):
     """A PILE with as many sets as can be; raises Selfish."""
-    _no_selfish(book)
+    refuse_selfish(book)
     return _tallest(book, parted(book, book.kinds))
 
 
 def most_waste(book):
     """The greatest waste that first-free ever has; raises Selfish."""
-    _no_selfish(book)
+    refuse_selfish(book)
     return _wasting(book, parted(book, book.kinds))[0]
 
 
 def wasting_row(book):
     """Unlike kinds behind whose coming first-free has its greatest waste; () if that is 0; raises Selfish."""
-    _no_selfish(book)
+    refuse_selfish(book)
     return _wasting(book, parted(book, book.kinds))[1]
 
 
-def _no_selfish(book):
+def refuse_selfish(book):
+    """Raises Selfish with the least selfish kind, if there is one."""
     if book.selfish:
         raise Selfish(book.selfish[0])
 
@@ -115,8 +116,8 @@ def _wasting_of_piece(book):
         pile = _tallest_of_piece(book)
         return (len(pile) - 2, row_of(pile))
     piles = _piles(clash_bits(book))
-    fewest = _fewest(clash_bits(book))
-    waste, kinds = max([(len(pile) - fewest[at], at) for at, pile in enumerate(piles)])
+    needs = fewest(clash_bits(book))
+    waste, kinds = max([(len(pile) - needs[at], at) for at, pile in enumerate(piles)])
     return (waste, row_of(_named(book, piles[kinds])))
 
 
@@ -179,7 +180,7 @@ def _piles(clash):
     return found
 
 
-def _fewest(clash):
+def fewest(clash):
     """For each set of kinds, told by bits, its need."""
     found = [0]
     for bits, lowest in enumerate(_lowest_sets(clash)):

@@ -5,7 +5,9 @@ import importlib
 import inspect
 import unittest
 
+from onehostmore.board import Board
 from onehostmore.books import Book
+from onehostmore.texts import board_in, board_text
 from test_interface import FUNCTIONS
 from things import lists_for
 
@@ -18,6 +20,9 @@ ROW = (("come", "a"), ("come", "d"), ("go", 0), ("come", "b"), ("come", "c"))
 SENSE = ("goings", "peak", "lazy")
 RUN = (0, 0, 1, 2)
 PILE = (("a", "d"), ("b",), ("c",))
+STANDING = (("a", "d"), ("b",), ("c", "c"))
+LOG = (("come", "a", 0), ("come", "b", 0), ("come", "c", 1), ("go", "b", 0), ("come", "c", 1))
+BOARD_TEXT = "kinds a b\nrow a b -0 a\nold: a b; a-b\nold from * .. a b; a-a a-b\nend"
 
 CALLS = {
     "has_tree": (CHAIN,), "tree_of": (PORTS,), "is_tree": (TREE,), "tree_kinds": (TREE,), "book_of": (TREE,),
@@ -43,6 +48,23 @@ CALLS = {
     "pieces": (CHAIN,), "tallest": (CHAIN,), "most_hosts": (CHAIN,), "is_spread": (CHAIN, PILE), "is_pile": (CHAIN, PILE),
     "row_of": (PILE,), "most_waste": (CHAIN,), "wasting_row": (CHAIN,),
     "bad_four": (CHAIN, ("a", "d", "b", "c")), "fine_order": (CHAIN,), "how_many_fine": (CHAIN,),
+    "promise": (CHAIN, (("a",), ("d",))), "best_hosts": (CHAIN, (("a",),), "d"), "comers": (CHAIN, (("a",),)),
+    "value": (CHAIN,),
+    "changed": (CHAIN, (("d", "a"), ("b", "b"))), "all_changes": (CHAIN, "tree", "both"),
+    "least_change": (CHAIN, "moment", "give"),
+    "is_arrangement": (CHAIN, STANDING), "put_first": (CHAIN, STANDING, "b"), "filled": (CHAIN, ("a", "d", "b", "c")),
+    "stray": (CHAIN, (("a",), ("d", "b"))), "stuck": (CHAIN, (("a",), ("c",), ("b",))), "opening": (CHAIN, STANDING),
+    "how_many_rows": (CHAIN, STANDING), "how_many_lazy": (CHAIN, STANDING), "nth_row": (CHAIN, STANDING, 2),
+    "nth_lazy": (CHAIN, STANDING, 2), "rank_row": (CHAIN, STANDING, ("a", "d", "b", "c", "c")),
+    "all_filled": (CHAIN, ("a", "d", "b")), "hosts_range": (CHAIN, ("a", "d", "b", "c")),
+    "is_log": (LOG,), "log_kinds": (LOG,), "log_of": (CHAIN, ROW), "first_wrong": (CHAIN, LOG), "fits": (CHAIN, LOG),
+    "broken": (LOG,), "told_peaces": (LOG,), "wants": (LOG,), "told_clashes": (LOG,), "verdict": (LOG, "c", "a"),
+    "most_clashes": (LOG,), "how_many_fit": (LOG,), "nth_fit": (LOG, 1), "fewest_clashes": (LOG,),
+    "next_hosts": (LOG, "b"), "telling_row": (("a", "b", "c"),),
+    "need_at": (PORTS, CROWD, (("db", 1), ("log", 2)), 4), "rises": (PORTS, CROWD, (("db", 1), ("log", 2))),
+    "most_steps": (PORTS, CROWD, (("db", 1), ("log", 2)), 9),
+    "crowd_text": (CROWD,), "crowd_in": ("db 3, log 2",), "board_text": (board_in(BOARD_TEXT),), "board_in": (BOARD_TEXT,),
+    "answers": ("kinds a b\ncome a\nbook x a-a\nhosts x",),
 }
 EARLIER = ("plain", "books", "patterns")
 FOUND = {name: getattr(importlib.import_module("onehostmore." + file), name)
@@ -50,7 +72,9 @@ FOUND = {name: getattr(importlib.import_module("onehostmore." + file), name)
 
 
 def told(value):
-    """A value as a text, Books by theirs; tuples and lists, numbers and bools are told apart."""
+    """A value as a text, Books and Boards by theirs; tuples and lists, numbers and bools are told apart."""
+    if isinstance(value, Board):
+        return board_text(value)
     return repr(value) if not isinstance(value, Book) else value.text
 
 

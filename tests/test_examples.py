@@ -17,7 +17,13 @@ SECTIONS = {
     6: (12, ("forced",)),
     7: (13, ("keepers",)),
     8: (8, ("runs",)),
-    9: (7, ("most", "ranks")),
+    9: (11, ("most", "ranks", "game", "changes")),
+    10: (11, ("arrangements",)),
+    11: (9, ("logs",)),
+    12: (4, ("growth",)),
+    13: (12, ("board",)),
+    14: (5, ("texts",)),
+    15: (3, ("desk",)),
 }
 
 
@@ -87,7 +93,9 @@ class Examples(unittest.TestCase):
             "raises NoTree(four=('a', 'b', 'c', 'd'))", "raises BadText()",
             "raises NoTree(four=('a', 'b', 'c', 'd'))", "raises NoKind(kind='mail')",
             "raises NoKind(kind='zz')", "raises NoKeeper(given='best')", "raises NoNumber(number=4)",
-            "raises Selfish(kind='b')"])
+            "raises Selfish(kind='b')", "raises NotLed()", "raises NoKind(kind='x')", "raises NoNumber(number=24)",
+            "raises NoRoom(many=1)", "raises Outside(name='new')", "raises Stopped(number=1, raised='NoJob', value=0)",
+            "raises BadText()", "raises BadLine(number=1)", "raises BadLine(number=0)"])
 
 
 if __name__ == "__main__":

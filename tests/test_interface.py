@@ -43,6 +43,25 @@ FUNCTIONS = {
         "pieces": ["book"], "tallest": ["book"], "most_hosts": ["book"], "is_spread": ["book", "thing"],
         "is_pile": ["book", "thing"], "row_of": ["pile"], "most_waste": ["book"], "wasting_row": ["book"]},
     "ranks": {"bad_four": ["book", "order"], "fine_order": ["book"], "how_many_fine": ["book"]},
+    "game": {"promise": ["book", "spread"], "best_hosts": ["book", "spread", "kind"], "comers": ["book", "spread"],
+             "value": ["book"]},
+    "changes": {"changed": ["book", "pairs"], "all_changes": ["book", "sort", "way"],
+                "least_change": ["book", "sort", "way"]},
+    "arrangements": {
+        "is_arrangement": ["book", "thing"], "put_first": ["book", "arrangement", "kind"], "filled": ["book", "kinds"],
+        "stray": ["book", "arrangement"], "stuck": ["book", "arrangement"], "opening": ["book", "arrangement"],
+        "how_many_rows": ["book", "arrangement"], "how_many_lazy": ["book", "arrangement"],
+        "nth_row": ["book", "arrangement", "number"], "nth_lazy": ["book", "arrangement", "number"],
+        "rank_row": ["book", "arrangement", "kinds"], "all_filled": ["book", "kinds"], "hosts_range": ["book", "kinds"]},
+    "logs": {
+        "is_log": ["thing"], "log_kinds": ["log"], "log_of": ["book", "row"], "first_wrong": ["book", "log"],
+        "fits": ["book", "log"], "broken": ["log"], "told_peaces": ["log"], "wants": ["log"], "told_clashes": ["log"],
+        "verdict": ["log", "one", "other"], "most_clashes": ["log"], "how_many_fit": ["log"],
+        "nth_fit": ["log", "number"], "fewest_clashes": ["log"], "next_hosts": ["log", "kind"], "telling_row": ["kinds"]},
+    "growth": {"need_at": ["book", "base", "more", "number"], "rises": ["book", "base", "more"],
+               "most_steps": ["book", "base", "more", "hosts"]},
+    "texts": {"crowd_text": ["crowd"], "crowd_in": ["text"], "board_text": ["board"], "board_in": ["text"]},
+    "desk": {"answers": ["text"]},
 }
 # The arguments that are passed by name alone, with what they are if nothing is said.
 BY_NAME = {("runs", "runs"): {"most": 2000}, ("runs", "beating"): {"goings": True, "most": 5}}
@@ -54,9 +73,16 @@ METHODS = {
         "__len__": [], "__contains__": ["kind"], "__eq__": ["other"]},
     ("keepers", "Keeper"): {"__init__": ["word"], "__eq__": ["other"], "choice": ["book", "hosts", "kind"],
                             "run": ["book", "row"]},
+    ("board", "Board"): {
+        "__init__": ["kinds"], "__len__": [], "__contains__": ["name"], "__getitem__": ["name"], "__eq__": ["other"],
+        "__iter__": [], "hosts": ["name"], "used": ["name"], "spare": ["name"], "above": ["name"], "doubled": [],
+        "effect": ["name", "book"], "come": ["kind"], "go": ["job"], "__setitem__": ["name", "book"], "leave": ["name"],
+        "__iadd__": ["other"], "frame": ["name", "low", "high"], "lift": ["name"], "attempt": ["deeds"], "undo": [],
+        "twin": []},
 }
 STATIC = {("books", "Book"): {"of": ["text"]}}
-PROPERTIES = {("books", "Book"): ["kinds", "clashes", "selfish", "text"], ("keepers", "Keeper"): ["word"]}
+PROPERTIES = {("books", "Book"): ["kinds", "clashes", "selfish", "text"], ("keepers", "Keeper"): ["word"],
+              ("board", "Board"): ["kinds", "jobs", "crowd", "row", "names", "frames"]}
 
 
 def the_class(place):

@@ -25,6 +25,16 @@ OUTSIDE = (ast.AsyncFor, ast.AsyncFunctionDef, ast.AsyncWith, ast.Await, ast.Glo
            ast.NamedExpr, ast.AnnAssign)
 
 
+# What these change, their users mean to be changed; all other operators, and properties, change nothing.
+CHANGING = {"__init__", "__iadd__", "__setitem__"}
+
+
+def stars_in_indexes(tree):
+    """The subscripts of a tree that have a star within their brackets."""
+    return [node for node in ast.walk(tree) if isinstance(node, ast.Subscript)
+            and any(isinstance(part, ast.Starred) for part in ast.walk(node.slice))]
+
+
 class Language(unittest.TestCase):
 
     def each(self, kind):
@@ -164,6 +174,50 @@ class Language(unittest.TestCase):
             self.assertNotIsInstance(node.value, (float, complex), self.where(path, node))
             if isinstance(node.value, str):
                 self.assertNotIn(chr(37), node.value, self.where(path, node))
+
+    def test_no_star_in_an_index(self):
+        for text in ("d[(*a, 1)] = True", "d[*a] = 1", "print(d[b][(1, (*a, 2))])", "x = d[f(*a)]", "del d[(*a,)]",
+                     "x = d[[*a][0]]", "x = d[1:max(*a)]"):
+            self.assertEqual(len(stars_in_indexes(ast.parse(text))), 1, text)
+        for text in ("x = (*a[1:], *b[0])", "d[k] = (*a, 1)", "x = f(*a[0])", "x, *y = a[0]", "x = a[1] * b"):
+            self.assertEqual(stars_in_indexes(ast.parse(text)), [], text)
+        for path in FILES:
+            self.assertEqual([self.where(path, node) for node in stars_in_indexes(TREES[path])], [])
+
+    def test_a_class_with_items_can_not_be_gone_through(self):
+        for path, node in self.each(ast.ClassDef):
+            methods = {part.name: part for part in node.body if isinstance(part, ast.FunctionDef)}
+            if "__getitem__" in methods:
+                self.assertIsInstance(methods["__iter__"].body[-1], ast.Raise, self.where(path, node))
+            for name in methods:
+                self.assertNotIn(name, ("keys", "__hash__"))
+
+    def test_what_operators_and_properties_run_changes_nothing(self):
+        named = {}
+        for _, node in self.each(ast.FunctionDef):
+            named.setdefault(node.name, []).append(node)
+        properties = {node.name for _, node in self.each(ast.FunctionDef)
+                      if [ast.unparse(part) for part in node.decorator_list] == ["property"]}
+        reached, waiting = set(), [*properties, *[name for name in named if name.startswith("__") and name not in CHANGING]]
+        while waiting:
+            name = waiting.pop()
+            for node in named[name] if name not in reached else ():
+                used = [part.func.id for part in ast.walk(node) if isinstance(part, ast.Call) and isinstance(part.func, ast.Name)]
+                used += [part.attr for part in ast.walk(node) if isinstance(part, ast.Attribute)]
+                waiting += [one for one in used if one in named]
+                for part in ast.walk(node):
+                    self.assertNotIsInstance(part, (ast.AugAssign, ast.Delete), (name, ast.unparse(part)))
+                    stored = isinstance(part, ast.Attribute) and not isinstance(part.ctx, ast.Load)
+                    self.assertFalse(stored, (name, ast.unparse(part)))
+            reached.add(name)
+        self.assertTrue({"jobs", "crowd", "there", "crowd_of", "__getitem__", "clashing"} & reached)
+
+    def test_words_that_are_not_used(self):
+        words = """typing enum Enum Flag Generic Protocol ABC namedtuple TypedDict dataclass overload contextmanager
+            type exit id vars hash dir""".split()
+        for path, node in NODES:
+            for field in ("id", "attr", "name", "arg"):
+                self.assertNotIn(getattr(node, field, None), words, path)
 
     def test_decorators(self):
         for path, node in self.each((ast.FunctionDef, ast.ClassDef)):
