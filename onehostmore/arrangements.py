@@ -14,8 +14,10 @@ def _is_host(book, thing):
     """Whether thing is an ascending row of KINDs of the book, one or more, no two of these jobs clashing."""
     if not isinstance(thing, tuple) or thing == () or not all([kind in book for kind in thing]):
         return False
-    pairs = [(one, other) for at, one in enumerate(thing) for other in thing[at + 1:]]
-    return all([one <= other and not book.clash(one, other) for one, other in pairs])
+    # Two jobs of a kind tell as much as more of them.
+    few = [kind for kind, number in crowd_of(thing) for _ in range(min(number, 2))]
+    clash = any([book.clash(one, other) for at, one in enumerate(few) for other in few[at + 1:]])
+    return list(thing) == sorted(thing) and not clash
 
 
 def _meets(book, kind, host):
@@ -37,7 +39,6 @@ def put_first(book, arrangement, kind):
 
 def filled(book, kinds):
     """What first-free makes of jobs of these KINDs, in this order; raises NoKind."""
-    ask_for(book, kinds)
     arrangement = ()
     for kind in kinds:
         arrangement = put_first(book, arrangement, kind)
@@ -217,10 +218,10 @@ def _first_hosts(book, crowd):
     for kind, _ in crowd:
         sets = [*sets, *[[*some, kind] for some in sets if not _meets(book, kind, some)]]
     full = [some for some in sets if all([one in some or _meets(book, one, some) for one, _ in crowd])]
-    return [_parted(book, crowd, some) for some in full]
+    return [_host_and_rest(book, crowd, some) for some in full]
 
 
-def _parted(book, crowd, kinds):
+def _host_and_rest(book, crowd, kinds):
     """The pair (host, CROWD of the others), all jobs that can being on the host that have one of these kinds."""
     on = {kind: 1 if book.clash(kind, kind) else number for kind, number in crowd if kind in kinds}
     host = tuple([kind for kind in on for _ in range(on[kind])])

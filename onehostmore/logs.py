@@ -1,7 +1,6 @@
 """LOGs of first-free: what they tell of a book that is not known."""
 
 from onehostmore.books import Book
-from onehostmore.crowds import ask_for
 from onehostmore.errors import NoNumber
 from onehostmore.keepers import Keeper, kinds_of, put, taken
 from onehostmore.plain import is_kind, is_number
@@ -11,15 +10,17 @@ def is_log(thing):
     """Whether thing is a LOG."""
     if not isinstance(thing, tuple) or not all([_is_triple(triple) for triple in thing]):
         return False
-    hosts = ()
+    # How many jobs there are of each KIND on each host, and on each host in all.
+    jobs = {}
     opened = 0
     for word, kind, host in thing:
-        there = [kinds for number, kinds in hosts if number == host]
-        if word == "come" and not there and host != opened:
+        if word == "come" and jobs.get(host, 0) == 0 and host != opened:
             return False
-        if word == "go" and not (there and kind in there[0]):
+        if word == "go" and jobs.get((kind, host), 0) == 0:
             return False
-        hosts = _behind(hosts, (word, kind, host))
+        more = 1 if word == "come" else -1
+        for key in (host, (kind, host)):
+            jobs[key] = jobs.get(key, 0) + more
         opened = max(opened, host + 1)
     return True
 
@@ -37,7 +38,6 @@ def log_kinds(log):
 def log_of(book, row):
     """The LOG of first-free for these deeds; raises NoKind."""
     kinds = kinds_of(row)
-    ask_for(book, kinds)
     run = Keeper("first").run(book, row)
     found = []
     came = 0

@@ -109,9 +109,8 @@ def _read_line(board, line, last):
     if place[0] == BOOK:
         board[name] = Book.of(rest)
     elif place[0] == FRAME:
-        low, dots, high = rest.partition(" .. ")
-        if dots == "":
-            raise BadText()
+        # Where there are no dots, high is the empty text, which no BOOK has.
+        low, _, high = rest.partition(" .. ")
         board.frame(name, _end_in(low), _end_in(high))
     return place
 
@@ -121,8 +120,9 @@ def _place_in(line):
     if line == "end":
         return ((END, ""), "")
     for place, sign in ((BOOK, ": "), (FRAME, " from ")):
-        name, found, rest = line.partition(sign)
-        if found == sign and is_kind(name):
+        # A line without the sign may be a NAME alone: then there is no rest, and no BOOK has the empty text.
+        name, _, rest = line.partition(sign)
+        if is_kind(name):
             return ((place, name), rest)
     raise BadText()
 

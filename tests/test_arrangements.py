@@ -11,6 +11,7 @@ from onehostmore.arrangements import (
 from onehostmore.books import Book
 from onehostmore.errors import NoKind, NoNumber, NotLed
 from models import clash_by, fair, least_need, partings
+from test_most import first_free
 from things import STRANGE, Refusing, all_books, bent_things, lists_for, many_kinds, nested, some_books
 
 PAIR = Book.of("a b; a-b")
@@ -24,16 +25,7 @@ BOOKS = [*list(all_books(("a", "b")))[::2], *some_books(("a", "b", "c"), 12, 1),
 
 def told_filled(book, kinds):
     """What first-free makes of jobs of these KINDs."""
-    clash = clash_by(book)
-    hosts = []
-    for kind in kinds:
-        for host in hosts:
-            if not any(clash(kind, other) for other in host):
-                host.append(kind)
-                break
-        else:
-            hosts.append([kind])
-    return tuple(tuple(sorted(host)) for host in hosts)
+    return tuple(tuple(sorted(host)) for host in first_free(book, kinds))
 
 
 def told_lazy(book, kinds):
@@ -107,6 +99,8 @@ class IsArrangement(unittest.TestCase):
         self.assertIs(is_arrangement(OWN, (("a",), ("a",), ("c", "c"))), True)
         self.assertIs(is_arrangement(OWN, (("a", "a"),)), False)
         self.assertIs(is_arrangement(CHAIN, (("a",) * 100, ("b",) * 50)), True)
+        self.assertIs(is_arrangement(CHAIN, (("a",) * 5000 + ("c",) * 5000,)), True)
+        self.assertIs(is_arrangement(CHAIN, (("a",) * 5000 + ("b",),)), False)
         self.assertIs(is_arrangement(Book(NAMES), tuple((kind,) * 6 for kind in NAMES)), True)
         self.assertIs(is_arrangement(thing=(("a",),), book=PAIR), True)
 

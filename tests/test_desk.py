@@ -177,6 +177,7 @@ class Desk(Refusing):
                "frame x from * .. * ", "frame x from * .. b-a", "frame x from a-d .. *", "frame x from * .. a-b a-b",
                "frame X from * .. *", "frame x from  * .. *", "frame x from * .. * .. *", "frame x from * - .. *", "frame from * .. *",
                "frame x From * .. *", "frame x from *  .. *", "frame x from * ... *", "frame x from *..*", "frame x from - a-b .. *",
+               "hosts x from * .. *", "x x from * .. *", "add x from * .. *", "frame x to * .. *", "frame x ..",
                "frame x from ..", "frame", "frame x from a-b .. b-c a-b",
                "jobs ", "jobs x", " jobs", "Jobs", "crowd x", "crowd ", "hosts", "hosts x y", "hosts X", "hosts ", "hosts x ",
                "used", "used x y", "used 1", "above", "above x y", "above ", "doubled x", "doubled ", "effect", "effect x",

@@ -132,6 +132,13 @@ class Rises(unittest.TestCase):
         self.assertEqual(rises(SHOP, (("c", BIG),), (("a", 1),)), ((0, BIG, 0), (BIG + 1, BIG + 1, 1)))
         self.assertEqual(rises(SHOP, (("c", BIG),), (("a", 1),))[-1][0], BIG + 1)
 
+    def test_without_jobs_at_first(self):
+        wide = Book(NAMES[1:]).turned()
+        wide = Book(wide.kinds, [pair for pair in wide.clashes if pair[0] != pair[1]]).beside(Book.of("aa; aa-aa"))
+        every = tuple((kind, 1) for kind in NAMES)
+        self.assertEqual(rises(wide, (), every), ((0, 0, 39), (2, 39, 0), (40, 40, 1)))
+        self.assertEqual([most_steps(wide, (), every, hosts) for hosts in (0, 38, 39, 40, 45, BIG)], [0, 0, 39, 40, 45, BIG])
+
     def check_ends(self, book, base, more):
         """Each piece is even at its ends and in its midst, and goes no further."""
         found = rises(book, base, more)

@@ -138,6 +138,8 @@ class IsLog(unittest.TestCase):
         long = tuple(("come", chr(97 + at % 26) * 9, at) for at in range(200))
         self.assertIs(is_log(thing=long), True)
         self.assertIs(is_log((*long, ("go", "a" * 9, 0), ("go", "a" * 9, 0))), False)
+        many = tuple(("come", "a", at) for at in range(5000))
+        self.assertIs(is_log((*many, *[("go", "a", at) for at in range(5000)], ("come", "a", 5000))), True)
 
 
 class Fits(Refusing):
@@ -271,6 +273,12 @@ class Told(Refusing):
         self.assertEqual(wants(log), ((("a", "c"),), (("c", "c"),)))
         self.assertEqual(told_clashes(log), (("a", "c"), ("c", "c")))
         self.assertEqual(verdict(log, "c", "a"), "clash")
+
+    def test_one_clash_that_two_sets_want(self):
+        log = (*LOG, ("go", "a", 0), ("come", "d", 0), ("come", "c", 1))
+        self.assertEqual(wants(log), ((("a", "c"), ("b", "c")), (("b", "c"), ("c", "d"))))
+        self.assertEqual((fewest_clashes(log), how_many_fit(log), nth_fit(log, 0).clashes), (1, 80, (("a", "a"), ("a", "c"), (
+            "a", "d"), ("b", "b"), ("b", "c"))))
 
     def test_kinds_that_are_not_in_the_log(self):
         for one, other in (("a", "x"), ("x", "a"), ("x", "x"), ("x", "y")):

@@ -3,8 +3,10 @@
 import random
 import unittest
 
+from onehostmore.board import Board
 from onehostmore.books import Book
 from onehostmore.errors import BadText, NoKind, NoTree, Stopped
+from onehostmore.keepers import Keeper
 
 
 def nested(inner, depth, wrap=tuple):
@@ -23,6 +25,8 @@ STRANGE = [
     [("a", "b", "c")], (("a",), ("b",), ("c",), ("d",)), ("a", ["b", "c"], "d"), ("a", "", "b"), ("A", "B", "C"),
     Book(()), Book(("a",)), Book.of("a b c; b-c"), NoKind("a"), BadText(), NoTree(("a", "b", "c", "d")),
     Stopped(1, "NoJob", 0), (Book(()), Book(()), Book(())), (Book(("a",)),) * 4, (Book(("a",)),) * 5,
+    Board(), Board(("z",)), (Board(), Board(), Board()), (Board(("a",)),) * 4, ("a", Board(("b",)), "c"), [Board()],
+    (Keeper("first"),), (Keeper("last"),) * 3, ("come", Board(("z",)), 0), (("come", Keeper("full"), 0),), nested(Board(), 11),
     ("a", Book(("b",)), "c"), (NoKind("a"), "b", "c", "d"), nested("a", 11), nested("a", 12), nested("a", 12, list),
     nested((), 11), nested(("a", "b", "c"), 11), nested(("a", "b", "c", "d"), 11), nested([True], 11), nested(None, 12),
     ("a", "b", nested("c", 11)), ("a", "b", "c", nested("d", 11)), (nested("a", 11, list),) * 5,
